@@ -155,7 +155,7 @@ func TestP10ByTheAnswersAlone(t *testing.T) {
 }
 
 // eachOp gives all runs of so many operations out of a few.
-func eachOp(count int, choices []impl.RecOp, ahead []impl.RecOp, ask func([]impl.RecOp)) {
+func eachOp[Op any](count int, choices, ahead []Op, ask func([]Op)) {
 	if count == 0 {
 		ask(ahead)
 		return
