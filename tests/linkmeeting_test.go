@@ -134,6 +134,27 @@ func TestP17SpoiltVersionOfAPacket(t *testing.T) {
 	}
 }
 
+// A list without the version in use, which is spoilt on its way, comes too late: the client has opened a packet, or is open.
+func TestP17VersionsThatComeTooLate(t *testing.T) {
+	s := withVersions([]int{7, 1}, []int{7})
+	// The version in the client's packet is spoilt, so that there is a list, of version 7 alone: number 1.
+	for _, c := range []struct {
+		ahead []int
+		heard bool
+	}{{nil, true}, {[]int{0}, true}, {[]int{0, 2}, false}, {[]int{0, 2, 3}, false}, {[]int{0, 2, 3, 4, 5, 6}, false}} {
+		ops := append([]impl.LinkOp{linkSpoil(0, 4, 8)}, linkEach(linkDeliver, c.ahead...)...)
+		got := takesLink(t, s, append(ops, linkSpoil(1, 26, 6)))
+		if last := got.Obs[len(ops)]; (last.Sent == 1) != c.heard || (got.Client.Version == 1) != c.heard {
+			t.Errorf("behind %v: %+v, version %d", c.ahead, last, got.Client.Version)
+		}
+		// One with no version in common would close it.
+		got = takesLink(t, s, append(ops, linkSpoil(1, 26, 5)))
+		if closed := got.Client.Code == impl.ErrVersion; closed != c.heard {
+			t.Errorf("behind %v: %+v", c.ahead, got.Client)
+		}
+	}
+}
+
 func TestP17NamesInCommon(t *testing.T) {
 	for _, c := range []struct {
 		client, server []string

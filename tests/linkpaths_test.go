@@ -116,6 +116,26 @@ func TestP18AnAcknowledgementLongerThanRoom(t *testing.T) {
 	}
 }
 
+// Just as long as room: a reset of 7 bytes comes in 25, of which thrice, less 50, are 25. Eleven ranges fill them.
+func TestP18AnAcknowledgementAsLongAsRoom(t *testing.T) {
+	for _, count := range []int{8, 9, 10, 11, 12} {
+		ops := append(everySecond(count), linkRebind(), linkReset(0, 0, 16384), linkDeliver(8+2*count+count))
+		_, got, l := behindCalm(t, wideLink(), ops...)
+		// The reset is the packet behind the last one that came: both are of one range.
+		long := 5 + 2*count
+		gone := 18 + long
+		if long > 25 {
+			gone = 18 + 5
+		}
+		if left := 25 - (gone - 18); left >= 9 {
+			gone += 9
+		}
+		if met := l.met["an acknowledgement longer than room"]; got.Server.Came != 25 || got.Server.Gone != gone || (met == 1) != (long > 25) {
+			t.Errorf("%d ranges: %d bytes came, %d are gone, want %d", count+1, got.Server.Came, got.Server.Gone, gone)
+		}
+	}
+}
+
 // The packet by which a server closes goes whether the path lets it or not, and counts.
 func TestP18TheLastPacket(t *testing.T) {
 	for n := 1; n < 60; n++ {

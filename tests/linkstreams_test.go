@@ -256,8 +256,9 @@ func TestP16AProbeBeyondTheWindow(t *testing.T) {
 	}
 }
 
-// 20 bytes that are not one behind the other are lost at once: each needs a packet of its own, of which 16 go at once.
-func TestP16ABurst(t *testing.T) {
+// burstAhead has 20 bytes that are not one behind the other, of which all but the last are lost at once: each needs a packet of its own,
+// of which 16 go at once, and 3 wait. The server's last acknowledgement, 67, has told it.
+func burstAhead() []impl.LinkOp {
 	ops := []impl.LinkOp{linkOpen(0)}
 	for i := range 40 {
 		ops = append(ops, linkWrite(0, 0, string(rune('a'+i%26))))
@@ -265,8 +266,11 @@ func TestP16ABurst(t *testing.T) {
 	for i := range 20 {
 		ops = append(ops, linkDeliver(9+2*i))
 	}
-	// The server's last acknowledgement tells all losses but that of the packet just below it.
-	obs, got, l := behindCalm(t, wideLink(), append(ops, linkDeliver(8+40+19), linkOpen(0), linkCalm(9), linkRead(1, 0, 99))...)
+	return append(ops, linkDeliver(8+40+19))
+}
+
+func TestP16ABurst(t *testing.T) {
+	obs, got, l := behindCalm(t, wideLink(), append(burstAhead(), linkOpen(0), linkCalm(9), linkRead(1, 0, 99))...)
 	if obs[61].Sent != 16 || obs[62].Sent != 3 || len(obs[64].Data) != 40 || l.met["burst"] != 1 {
 		t.Errorf("%+v", obs[60:])
 	}
@@ -278,6 +282,65 @@ func TestP16ABurst(t *testing.T) {
 	obs, _, _ = behindCalm(t, s, linkOpen(0), linkWrite(0, 0, strings.Repeat("x", 16384)), linkCalm(9), linkRead(1, 0, 1<<20), linkCalm(9), linkWrite(0, 0, strings.Repeat("y", 16384)), linkCalm(9), linkRead(1, 0, 1<<20))
 	if obs[5].Sent != 16 || len(obs[7].Data) != 16384 {
 		t.Errorf("%d packets, %d bytes", obs[5].Sent, len(obs[7].Data))
+	}
+}
+
+// What makes an end speak: something waits, and goes or goes not behind an operation.
+func TestP16WhoSpeaksBehindAnOperation(t *testing.T) {
+	s := wideLink()
+	for _, c := range []struct {
+		op   impl.LinkOp
+		sent int
+	}{
+		{linkOpen(0), 3}, {linkWrite(0, 0, ""), 3}, {linkRead(0, 0, 5), 3}, {linkUpdate(0), 3}, {linkStop(0, 0, 1), 3}, {linkOpenOneWay(0), 3},
+		// With a code.
+		{linkRead(0, 0, 0), 0}, {linkRead(0, 4, 1), 0}, {linkWrite(0, 4, "x"), 0}, {linkWrite(0, 0, strings.Repeat("x", 65536)), 0}, {linkReset(0, 4, 1), 0}, {linkStop(0, 0, -1), 0}, {linkClose(0, -1), 0}, {impl.LinkOp{Kind: 99}, 0}, {impl.LinkOp{Kind: 1, Side: 2}, 0}, {linkDeliver(-1), 0}, {linkSpoil(67, 999, 1), 0}, {linkCalm(0), 0}, {linkTick(-1), 0},
+		// On no side, and on the other one.
+		{linkRebind(), 0}, {linkLose(), 0}, {linkTick(0), 0}, {linkOpen(1), 0}, {linkRead(1, 0, 1), 0}, {linkClose(0, 5), 1},
+		// A datagram, whether something in it opens or not: it came ahead, a byte of it is spoilt, it is no packet at all, or none of this form.
+		{linkDeliver(67), 3}, {linkDeliver(1), 3}, {linkSpoil(67, 20, 1), 3}, {linkSpoil(67, 0, 64), 3}, {linkSpoil(67, 0, 192), 3}, {linkSpoil(66, 15, 0), 3}, {linkDeliver(0), 0},
+	} {
+		obs, _, _ := behindCalm(t, s, append(burstAhead(), c.op)...)
+		if got := obs[62].Sent; got != c.sent {
+			t.Errorf("%s: %d packets, want %d", toldLinkOp(c.op), got, c.sent)
+		}
+	}
+	// Who hears that all is over, or nothing for too long, says nothing.
+	obs, got, _ := behindCalm(t, s, append(burstAhead(), linkClose(1, 3), linkDeliver(8+40+20+16), linkCalm(3), linkTick(5))...)
+	if obs[63].Sent != 0 || obs[64].Sent != 0 || got.Client.Code != impl.ErrClosed {
+		t.Errorf("%+v", obs[61:])
+	}
+	s.Client.Idle = 1
+	obs, got, _ = behindCalm(t, s, append(burstAhead(), linkTick(1), linkDeliver(67), linkSpoil(67, 0, 64))...)
+	if obs[62].Sent != 0 || obs[63].Sent != 0 || obs[64].Sent != 0 || got.Client.Code != impl.ErrIdle {
+		t.Errorf("%+v", obs[61:])
+	}
+}
+
+// A stream that is given up, read while something waits: it speaks with that code too, the first time and later.
+func TestP16SpeaksBehindACancel(t *testing.T) {
+	ops := append([]impl.LinkOp{linkOpen(1), linkWrite(1, 1, "x"), linkCalm(1), linkReset(1, 1, 3), linkCalm(1)}, everySecond(20)...)
+	for i := range ops {
+		if ops[i].Kind == impl.LDeliver {
+			ops[i].N += 4
+		}
+	}
+	ops = append(ops, linkDeliver(8+4+40+19))
+	obs, _, _ := behindCalm(t, wideLink(), append(ops, linkRead(0, 1, 5))...)
+	at := len(ops)
+	if obs[at-1].Sent != 16 || obs[at].Code != impl.ErrCancel || obs[at].Sent != 3 {
+		t.Errorf("%+v", obs[at-2:])
+	}
+	ahead := slices.Insert(slices.Clone(ops), 5, linkRead(0, 1, 5), linkCalm(1))
+	for i := range ahead {
+		if i > 6 && ahead[i].Kind == impl.LDeliver {
+			ahead[i].N += 2
+		}
+	}
+	obs, _, _ = behindCalm(t, wideLink(), append(ahead, linkRead(0, 1, 5))...)
+	at = len(ahead)
+	if obs[5].Code != impl.ErrCancel || obs[at-1].Sent != 16 || obs[at].Code != impl.ErrCancel || obs[at].Sent != 3 {
+		t.Errorf("%+v", obs[at-2:])
 	}
 }
 
