@@ -279,14 +279,13 @@ func TestP17TokensOfAnotherAddressOrTime(t *testing.T) {
 	}
 }
 
-// A token that nobody asked for says nothing: a server without retries takes any.
+// Spoilt to version 6 the first packet gets a retry, which is right for the id; the packet behind it is of version 7, so that it is
+// answered by a list; and the client begins anew, with its token.
 func TestP17ARetryBetweenVersions(t *testing.T) {
 	s := withVersions([]int{7, 1}, []int{6, 1})
 	s.Retry = true
-	// Spoilt to version 6 the packet gets a retry, which is right for the id; the packet behind it is of version 7.
-	ops := []impl.LinkOp{linkSpoil(0, 4, 1), linkDeliver(1), linkDeliver(2), linkDeliver(3), linkCalm(3)}
-	got := takesLink(t, s, ops)
-	if got.Obs[0].Sent != 1 || got.Obs[1].Sent != 1 || got.Obs[2].Sent != 1 || got.Obs[3].Sent != 1 || got.Client.Version != 1 {
+	got := takesLink(t, s, []impl.LinkOp{linkSpoil(0, 4, 1), linkDeliver(1), linkDeliver(2), linkDeliver(3)})
+	if got.Obs[0].Sent != 1 || got.Obs[1].Sent != 1 || got.Obs[2].Sent != 1 || got.Obs[3].Sent != 1 || got.Client.Version != 1 || got.Client.Flight != 1139 || got.Client.Gone != 1115+2*1139 {
 		t.Errorf("%+v", got)
 	}
 }

@@ -258,10 +258,13 @@ func TestLinkTheGreatestTime(t *testing.T) {
 		}
 	}
 	// A timer that is at the greatest time goes off, one behind it doesn't.
-	for _, c := range []struct{ trip, packets int }{{317891, 20}, {317892, 19}} {
-		got := takesLink(t, plainLink(), append(toTheEnd(c.trip), linkTick(100000000)))
-		if got.Obs[9].Sent != c.packets {
-			t.Errorf("%d packets behind a round trip of %d", got.Obs[9].Sent, c.trip)
+	trip = 317890
+	wait := maxTime - trip - 3*trip*(1<<20-1)
+	for _, c := range []struct{ wait, packets int }{{wait - 1, 20}, {wait, 20}, {wait + 1, 19}} {
+		ops := slices.Insert(toTheEnd(trip), 8, linkTick(c.wait))
+		got := takesLink(t, plainLink(), append(ops, linkTick(100000000)))
+		if calm := got.Obs[10]; calm.Sent != c.packets || calm.Time > maxTime {
+			t.Errorf("behind %d: %+v, want %d packets", c.wait, calm, c.packets)
 		}
 	}
 }

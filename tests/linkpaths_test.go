@@ -34,7 +34,7 @@ func smallMove(code int) []impl.LinkOp {
 func TestP18JustEnoughForAPacket(t *testing.T) {
 	for _, c := range []struct{ code, came, gone, sent int }{
 		{0, 22, 0, 0}, {63, 22, 0, 0}, {64, 22, 0, 0}, {16383, 22, 0, 0},
-		// 22 bytes of frames: an acknowledgement of 5, a challenge of 9; the reset of 8 would fit, but not with 9.
+		// 22 bytes of frames are let: an acknowledgement of 5, a challenge of 9, and just the reset of 8, whose final size of 1000 has two.
 		{16384, 24, 18 + 5 + 9 + 8, 1},
 		{1 << 30, 28, 18 + 5 + 9 + 12, 1},
 	} {
@@ -43,7 +43,7 @@ func TestP18JustEnoughForAPacket(t *testing.T) {
 		if got.Server.Addr != 1 || got.Server.Valid || got.Server.Came != c.came || got.Server.Gone != c.gone || obs[len(ops)].Sent != c.sent {
 			t.Errorf("code %d: %+v, %+v", c.code, obs[len(ops)], got.Server)
 		}
-		if (l.met["no room on the path"] == 0) != (c.sent == 1 && c.gone+70 <= 3*c.came) && c.sent == 0 {
+		if l.met["no room on the path"] == 0 {
 			t.Errorf("code %d: %v", c.code, l.met)
 		}
 	}

@@ -208,10 +208,10 @@ func TestP16HalfOfAWindow(t *testing.T) {
 func TestP16StreamsByRisingNumber(t *testing.T) {
 	s := wideLink()
 	s.Server.ConnWindow = 100
-	obs, _, _ := behindCalm(t, s, linkOpen(0), linkOpen(0), linkOpenOneWay(0), linkUpdate(0),
+	obs, _, _ := behindCalm(t, s, linkOpen(0), linkOpen(0), linkOpenOneWay(0),
 		linkWrite(0, 4, strings.Repeat("b", 80)), linkWrite(0, 0, strings.Repeat("a", 15)), linkWrite(0, 2, strings.Repeat("c", 30)), linkCalm(9),
 		linkRead(1, 4, 999), linkRead(1, 0, 999), linkRead(1, 2, 999), linkCalm(9), linkRead(1, 2, 999))
-	wantReads(t, obs, map[int]string{8: strings.Repeat("b", 80), 9: strings.Repeat("a", 15), 10: strings.Repeat("c", 5), 12: strings.Repeat("c", 25)})
+	wantReads(t, obs, map[int]string{7: strings.Repeat("b", 80), 8: strings.Repeat("a", 15), 9: strings.Repeat("c", 5), 11: strings.Repeat("c", 25)})
 	// A packet is filled by the first one as far as there are 40 bytes left for the next.
 	for _, n := range []int{960, 1016, 1017, 1030, 1034, 1035, 1036, 1037, 1038, 1039, 1040, 1041, 1056, 1057} {
 		// Both wait until the window lets them: they go together then.
