@@ -115,16 +115,21 @@ func (k *askedTalk) come(from, id, n int) bool {
 	end := h.end && h.came == len(h.all)
 	something := len(b) > 0 || end && !h.endCame
 	h.endCame = h.endCame || end
-	to := 1 - from
-	if k.peers[to].code != impl.OK || !something {
-		return something
+	if something {
+		k.looksAt(1-from, id, b, end)
 	}
-	if id%4 >= 2 {
-		k.oneWayCame(to, id/4, b)
-	} else {
-		k.messageCame(to, id, b, end)
+	return something
+}
+
+// looksAt is what an end does with what has come on a stream.
+func (k *askedTalk) looksAt(side, id int, b []byte, end bool) {
+	switch {
+	case k.peers[side].code != impl.OK:
+	case id%4 >= 2:
+		k.oneWayCame(side, id/4, b)
+	default:
+		k.messageCame(side, id, b, end)
 	}
-	return true
 }
 
 func (k *askedTalk) oneWayCame(side, place int, b []byte) {
@@ -374,17 +379,17 @@ func (k *askedTalk) request(id int, m *askedMessage) {
 
 func (k *askedTalk) response(id int, m *askedMessage) {
 	reply := &k.replies[id/4]
-	if reply.Code != impl.OK {
-		return
-	}
+	refused := reply.Code == impl.ErrCancel
 	r, code := responseOfAsked(m.fields)
 	if code != impl.OK || !m.lengthOK(r.Fields) {
 		reply.Code = impl.ErrMessage
 		k.met["no response"]++
+		k.met["no response to what was refused"] += way(refused)
 		return
 	}
 	reply.Status, reply.Fields, reply.Body, reply.Done = r.Status, r.Fields, slices.Clone(m.body), true
 	k.met["done"]++
+	k.met["done though refused"] += way(refused)
 }
 
 // turn tells whether something was written.

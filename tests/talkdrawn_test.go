@@ -42,7 +42,7 @@ func drawnPriorityText(more *numbers) string {
 // talkWish is what drawn talks may hold.
 type talkWish struct {
 	drops, goaways, wrong, raws bool
-	// gentle raws are on responses alone.
+	// gentle raws are on responses, and goaways.
 	gentle bool
 }
 
@@ -154,6 +154,8 @@ func drawnTalkOp(more *numbers, k *askedTalk, wish talkWish) impl.TalkOp {
 			op.Kind = 9
 		}
 		return op
+	case n == 57 && wish.gentle && more.below(3) == 0:
+		return talkRaw(1, 3, hyperBytesAsked(impl.HFrame{Kind: impl.HGoaway, A: 4 * more.below(len(k.replies)+1)})...)
 	case n < 60 && wish.gentle:
 		if responses := openResponses(k); len(responses) > 0 {
 			return drawnRawOn(more, k, 1, responses[more.below(len(responses))])
@@ -289,7 +291,7 @@ func TestTalkDrawnRaws(t *testing.T) {
 			t.Fatalf("seed %d", seed)
 		}
 	}
-	for _, what := range []string{"side 0 met 2", "side 0 met 3", "side 0 met 16", "side 0 met 18", "side 1 met 3", "side 1 met 16", "side 1 met 18", "no response", "behind an end", "went on", "done", "refused by a goaway"} {
+	for _, what := range []string{"side 0 met 2", "side 0 met 3", "side 0 met 16", "side 0 met 18", "side 1 met 3", "side 1 met 16", "side 1 met 18", "no response", "behind an end", "went on", "done", "refused by a goaway", "done though refused", "no response to what was refused"} {
 		if met[what] < 10 {
 			t.Errorf("hardly met: %s (%d) of %v", what, met[what], met)
 		}

@@ -338,11 +338,73 @@ func TestTalkRawGoaways(t *testing.T) {
 	checkReplies(t, s, append(slices.Clone(begin), away(maxVar), talkMove(1, 3, 99), talkAll()), done(0, 200, "a"), done(4, 200, "b"), done(8, 200, "c"), done(12, 200, "d"))
 	checkLast(t, s, impl.ErrCancel, append(slices.Clone(begin), away(maxVar), talkAll(), talkRoot(""))...)
 	checkReplies(t, s, append(slices.Clone(begin), away(12), away(8), talkAway(), talkAll()), done(0, 200, "a"), no(4), no(8), no(12))
-	// The server has answered nevertheless: a Reply that was refused stays so.
-	checkReplies(t, s, append(slices.Clone(begin), away(8), talkMove(1, 3, 99), talkAll()), done(0, 200, "a"), done(4, 200, "b"), no(8), no(12))
-	checkReplies(t, s, append(slices.Clone(begin), away(8), talkMove(1, 3, 99), talkDrop(4), talkAll()), done(0, 200, "a"), no(4), no(8), no(12))
+	// The server has answered nevertheless: that counts, and the code stays.
+	checkReplies(t, s, append(slices.Clone(begin), away(8), talkMove(1, 3, 99), talkAll()), done(0, 200, "a"), done(4, 200, "b"), refusedDone(8, 200, "c"), refusedDone(12, 200, "d"))
+	checkReplies(t, s, append(slices.Clone(begin), away(8), talkMove(1, 3, 99), talkDrop(4), talkAll()), done(0, 200, "a"), no(4), refusedDone(8, 200, "c"), refusedDone(12, 200, "d"))
 	// One that is no response is refused then.
 	checkReplies(t, s, append(slices.Clone(begin), talkMove(0, 4, 99), talkRawEnd(1, 4), talkMove(1, 4, 99), away(0), talkMove(1, 3, 99)), done(0, 200, "a"), no(4), no(8), no(12))
+}
+
+// refusedDone is the Reply to a request that a goaway refused, and that was answered nevertheless.
+func refusedDone(id, status int, content string) impl.Reply {
+	r := done(id, status, content)
+	r.Code = impl.ErrCancel
+	return r
+}
+
+// What comes on the stream of a refused request counts behind its end as on any other.
+func TestP23ResponsesToRefusedRequests(t *testing.T) {
+	s := talkWith(0, 0, 10)
+	away := func(a int) []impl.TalkOp {
+		return []impl.TalkOp{talkRaw(1, 3, hyperBytesAsked(impl.HFrame{Kind: 7, A: a})...), talkMove(1, 3, 99)}
+	}
+	no, none, yes := failed(0, impl.ErrCancel), failed(0, impl.ErrMessage), refusedDone(0, 200, "content")
+	begin := append(arrived(talkRoot("content")), away(0)...)
+	for i, c := range []struct {
+		behind []impl.TalkOp
+		want   impl.Reply
+	}{
+		{nil, no},
+		{[]impl.TalkOp{talkAll()}, yes},
+		{[]impl.TalkOp{talkTurn(), talkMove(1, 0, 99)}, yes},
+		{[]impl.TalkOp{talkMove(1, 0, 99), talkTurn(), talkMove(1, 0, 1), talkMove(1, 0, 99)}, yes},
+		// Not ahead of its end.
+		{[]impl.TalkOp{talkMove(1, 0, 99)}, no},
+		{[]impl.TalkOp{talkMove(1, 0, 99), talkRaw(1, 0, 0, 7, 'c', 'o', 'n', 't', 'e', 'n', 't'), talkMove(1, 0, 99)}, no},
+		{[]impl.TalkOp{talkMove(1, 0, 99), talkRaw(1, 0, 0, 7, 'c', 'o', 'n', 't', 'e', 'n', 't'), talkRawEnd(1, 0), talkMove(1, 0, 99)}, yes},
+		// What is no response.
+		{[]impl.TalkOp{talkRawEnd(1, 0, 0), talkMove(1, 0, 99)}, none},
+		{[]impl.TalkOp{talkRawEnd(1, 0), talkMove(1, 0, 99)}, none},
+		{[]impl.TalkOp{talkRawEnd(1, 0, 0, 1, 'x'), talkMove(1, 0, 99)}, none},
+		{[]impl.TalkOp{talkRaw(1, 0, 0, 1, 'x'), talkAll()}, none},
+		// Another goaway: it refuses again what was no response, and not what is Done.
+		{slices.Concat([]impl.TalkOp{talkRawEnd(1, 0, 0), talkMove(1, 0, 99)}, away(0)), no},
+		{slices.Concat([]impl.TalkOp{talkRawEnd(1, 0, 0), talkMove(1, 0, 99)}, away(1)), none},
+		{slices.Concat([]impl.TalkOp{talkAll()}, away(0)), yes},
+		{append(away(0), talkAll()), yes},
+		// It can't be given up any more.
+		{[]impl.TalkOp{talkDrop(0), talkAll(), talkDrop(0)}, yes},
+		{[]impl.TalkOp{talkRawEnd(1, 0, 0), talkMove(1, 0, 99), talkDrop(0)}, none},
+	} {
+		out := checkReplies(t, s, append(slices.Clone(begin), c.behind...), c.want)
+		for at, op := range c.behind {
+			if obs := out.Obs[len(begin)+at]; op.Kind == impl.TDrop && obs.Code != impl.ErrState {
+				t.Errorf("case %d: %+v", i, obs)
+			}
+		}
+	}
+	// One that was given up first, and one that is Done ahead of the goaway.
+	checkReplies(t, s, slices.Concat(arrived(talkRoot("content")), []impl.TalkOp{talkDrop(0)}, away(0), []impl.TalkOp{talkAll()}), no)
+	checkReplies(t, s, slices.Concat(arrived(talkRoot("content")), []impl.TalkOp{talkDrop(0)}, away(0), []impl.TalkOp{talkRawEnd(1, 0, 0), talkAll()}), no)
+	checkReplies(t, s, slices.Concat([]impl.TalkOp{talkRoot("content"), talkAll()}, away(0), []impl.TalkOp{talkAll()}), done(0, 200, "content"))
+	// The goaway comes between the parts of a response.
+	checkReplies(t, s, slices.Concat(arrived(talkRoot("content")), talkMoves(1, 0), away(0), []impl.TalkOp{talkTurn()}, talkMoves(1, 0)), yes)
+	// A response that waits for entries goes on.
+	wide := talkWith(400, 2, 10)
+	waits := slices.Concat([]impl.TalkOp{talkAll(), talkRoot("content")}, talkMoves(0, 6, 0), []impl.TalkOp{talkTurn()}, talkMoves(1, 0), away(0))
+	checkReplies(t, wide, waits, no)
+	checkReplies(t, wide, append(slices.Clone(waits), talkMoves(1, 7)...), yes)
+	checkReplies(t, wide, append(slices.Clone(waits), talkDrop(0), talkAll()), yes)
 }
 
 // More comes at once than a reader may be handed.
