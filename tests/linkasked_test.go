@@ -62,6 +62,8 @@ type askedEnd struct {
 	agreed                      impl.Agreement
 	heardAt, spokeAt            int
 	opened, changed, retried    bool
+	// What it does ahead of speaking, of the last chapter.
+	carry func()
 }
 
 type askedLink struct {
@@ -138,6 +140,9 @@ func anyAsks(frames []impl.Frame) bool {
 }
 
 func (e *askedEnd) speak() {
+	if e.state == 1 && e.carry != nil {
+		e.carry()
+	}
 	for n := 0; n < 16 && e.state != 2; n++ {
 		space := min(1080, e.path.may()-50)
 		if space < 20 {
